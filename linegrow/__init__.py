@@ -1,0 +1,1 @@
+"""Linegrow: rows in which every letter is turned into a word at once."""

@@ -1,6 +1,6 @@
 """Books: a first row, and for each letter the word that it is turned into."""
 
-from linegrow.checks import is_letter, is_text_of
+from linegrow.checks import is_letter, is_text_of, is_tuple_of
 from linegrow.errors import NoBook, NoLetter
 
 MOST_RULES = 8
@@ -10,7 +10,7 @@ LONGEST_WORD = 6
 
 def has_letter_ahead(rule):
     # The word has to wait: what it may be made of is known only when all letters are.
-    return isinstance(rule, tuple) and len(rule) == 2 and is_letter(rule[0])
+    return is_tuple_of(rule, 2) and is_letter(rule[0])
 
 
 def ruled_letters(rules):
@@ -39,7 +39,7 @@ def book_of(first, rules):
 
 
 def is_book(thing):
-    if not isinstance(thing, tuple) or len(thing) != 2 or not makes_book(thing[0], thing[1]):
+    if not is_tuple_of(thing, 2) or not makes_book(thing[0], thing[1]):
         return False
     # Rules in a list, or not rising, make a book but are not yet those of one.
     return thing == book_of(thing[0], thing[1])
@@ -49,9 +49,12 @@ def letters(book):
     return "".join(ruled_letters(book[1]))
 
 
-def word(book, letter):
-    words = dict(book[1])
-    # Things of some kinds can't be looked up in a dict at all, so the kind is asked first.
-    if not is_letter(letter) or letter not in words:
+def need_letter(book, letter):
+    # Things of some kinds can't be compared or looked up at all, so the kind is asked first.
+    if not is_letter(letter) or letter not in letters(book):
         raise NoLetter("this is no letter of the book")
-    return words[letter]
+
+
+def word(book, letter):
+    need_letter(book, letter)
+    return dict(book[1])[letter]

@@ -1,6 +1,9 @@
 """What several test files need: odd things, written-out rows, and a check of which class a refusal has."""
 
+import random
+
 from linegrow import errors
+from linegrow.books import book_of
 
 CLASS_NAMES = [
     "NoBook", "NoAge", "NoLetter", "NoNumber", "NoPlace", "NoWay", "NoGroups", "NoWord", "NoTurn", "NoMark",
@@ -44,6 +47,13 @@ def no_ages(last=300):
     ]
 
 
+def no_numbers(least, most):
+    """What is no whole number from least to most, of many kinds."""
+    return odd_things() + [
+        least - 1, most + 1, -most - 1, 10 ** 299, -(10 ** 299), "", "0", "1", "a", [], [1], (), (1,), bytearray(b"1"),
+    ]
+
+
 def no_letters_of(inside):
     """What is none of the letters `inside`, of many kinds; "aa" and the like are longer than a letter."""
     others = [sign for sign in "abcdefghijklmnopqrstuvwxyz" if sign not in inside]
@@ -59,6 +69,18 @@ def written(first, rules, age):
     for step in range(age):
         text = "".join(dict(rules)[letter] for letter in text)
     return text
+
+
+def some_books(many, seed, longest_word=3, most_letters=8):
+    """Books of all sizes, the same ones each time; the words are short enough for some ages to be written out."""
+    chance = random.Random(seed)
+    told = []
+    for step in range(many):
+        signs = chance.sample("abcdefghijklmnopqrstuvwxyz", chance.randint(1, most_letters))
+        words = ["".join(chance.choices(signs, k=chance.randint(0, longest_word))) for sign in signs]
+        first = "".join(chance.choices(signs, k=chance.randint(0, chance.choice([2, 12]))))
+        told.append(book_of(first, list(zip(signs, words))))
+    return told
 
 
 def refused(case, name, call, *args):

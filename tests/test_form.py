@@ -36,6 +36,8 @@ BARRED_NODES = (
     ast.AsyncFunctionDef, ast.AsyncFor, ast.AsyncWith, ast.SetComp, ast.DictComp, ast.GeneratorExp, ast.NamedExpr,
     ast.Starred, ast.Div, ast.Import, ast.AnnAssign,
 )
+WALKED = {"zip", "enumerate", "reversed", "range", "items", "keys", "values"}
+WALKERS = {"list", "tuple", "dict", "sorted", "sum", "any", "all", "enumerate", "zip"}
 METHODS_WITH_UNDERSCORES = {"__init__", "__eq__", "__repr__", "__str__", "__len__"}
 
 
@@ -50,6 +52,23 @@ def tops(tree):
 
 def imports(tree):
     return [node for node in ast.walk(tree) if isinstance(node, ast.ImportFrom)]
+
+
+def called_name(node):
+    """What a call calls: the name, or the method's."""
+    return getattr(node.func, "id", None) or getattr(node.func, "attr", None)
+
+
+def walked_at_once(node, parent):
+    if isinstance(parent, (ast.For, ast.comprehension)):
+        return parent.iter is node
+    if not isinstance(parent, ast.Call) or node not in parent.args:
+        return False
+    if called_name(parent) in {"min", "max"}:
+        return len(parent.args) == 1
+    if called_name(parent) == "join":
+        return isinstance(parent.func.value, ast.Constant)
+    return called_name(parent) in WALKERS and parent.args[0] is node
 
 
 class TestForm(unittest.TestCase):
@@ -122,6 +141,31 @@ class TestForm(unittest.TestCase):
                 self.assertTrue(len(node.generators) == 1 and len(node.generators[0].ifs) < 2, spot)
             if isinstance(node, ast.Compare) and any(isinstance(op, (ast.Is, ast.IsNot)) for op in node.ops):
                 self.assertTrue(all(isinstance(side, ast.Constant) for side in node.comparators), spot)
+
+    def test_what_is_walked_and_sets_are_not_kept(self):
+        for path, tree in self.trees.items():
+            for parent in ast.walk(tree):
+                for node in ast.iter_child_nodes(parent):
+                    spot = f"{path.name}:{getattr(node, 'lineno', 0)}"
+                    if isinstance(node, ast.Call) and called_name(node) in WALKED:
+                        self.assertTrue(walked_at_once(node, parent), spot)
+                    if isinstance(node, ast.Set) or isinstance(node, ast.Call) and called_name(node) == "set":
+                        within = isinstance(parent, ast.Call) and called_name(parent) in {"sorted", "len"}
+                        self.assertTrue(within or isinstance(parent, (ast.Compare, ast.BinOp)), spot)
+
+    def test_powers_have_a_written_exponent(self):
+        for spot, node in self.each_node():
+            if isinstance(node, ast.BinOp) and isinstance(node.op, ast.Pow):
+                self.assertIsInstance(node.right, ast.Constant, spot)
+                self.assertIn(node.right.value, range(65), spot)
+
+    def test_names_at_the_top_have_plain_values(self):
+        plain = (ast.Constant, ast.List, ast.Tuple, ast.Dict, ast.Load, ast.Name, ast.USub, ast.UnaryOp)
+        for path, tree in self.trees.items():
+            for node in tree.body:
+                if isinstance(node, ast.Assign):
+                    for part in ast.walk(node.value):
+                        self.assertIsInstance(part, plain, f"{path.name}:{node.lineno}")
 
     def test_defs(self):
         for spot, node in self.each_node():

@@ -83,6 +83,22 @@ def some_books(many, seed, longest_word=3, most_letters=8):
     return told
 
 
+def later_letters(book):
+    """For each letter the letters that stand in its row at some age above 0, by closing the web step by step."""
+    told = {letter: set(text) for letter, text in book[1]}
+    for between in told:
+        for letter in told:
+            if between in told[letter]:
+                told[letter] |= told[between]
+    return told
+
+
+def ring_texts(book):
+    web = later_letters(book)
+    told = {"".join(sorted(one for one in web if one in web[other] and other in web[one])) for other in web}
+    return sorted(told - {""})
+
+
 def refused(case, name, call, *args):
     """The call is refused with the class of that name and with none of the others."""
     try:

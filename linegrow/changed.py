@@ -28,7 +28,7 @@ def shed(book):
 
 
 def short_row(book, age, most):
-    """The row at an age where it is short; rows ahead of it may be too long to be written down."""
+    # Rows ahead of a short one may be too long to be written down, so it is reckoned, then read as a stretch.
     many = length(book, age)
     if many > most:
         raise TooLong("the row at that age is too long")

@@ -22,14 +22,13 @@ def common_multiple(numbers):
 
 
 def depth_by(book, ring, letter, depths):
-    """How many rings can be come to from the letter on, as far as the depths of the letters behind it are known."""
+    # All letters of a ring are as deep as each other, so only what leads out of it counts.
     if not ring:
         return max([depths[sign] for sign in turned(book, letter)], default=0)
     return 1 + max([depths[sign] for sign in turned(book, ring) if sign not in ring], default=0)
 
 
 def ring_depths(book):
-    """For each letter how many rings, at most, can be come to one behind another from it on."""
     ringed = dict([(letter, ring_of(book, letter)) for letter in letters(book)])
     told = dict([(letter, 0) for letter in letters(book)])
     # Each round settles the letters whose depth hangs on settled ones alone; there are no more rounds than letters.
@@ -39,7 +38,6 @@ def ring_depths(book):
 
 
 def end_age(book, text):
-    """The least age at which nothing of a text is left, all of whose letters die."""
     # On the way to its end no letter comes of itself, so there are no more ages than letters.
     sums = length_sums(book, len(book[1]))
     age = 0

@@ -27,7 +27,7 @@ def is_entry(words, thing, size):
 
 
 def listing(words, thing, size):
-    """The numbers of each listed letter; none at all where the thing is no such list or lists a letter twice."""
+    # A wrong list is told as an empty one, which shows nothing, since the letter itself has to be listed.
     if not isinstance(thing, list) or not all([is_entry(words, entry, size) for entry in thing]):
         return {}
     told = dict([(entry[0], entry[1:]) for entry in thing])
@@ -35,7 +35,6 @@ def listing(words, thing, size):
 
 
 def lists_all(words, listed, letter):
-    """Whether the letter is listed, and with each letter those of its word."""
     return letter in listed and all([sign in listed for sign in "".join([words[each] for each in listed])])
 
 
@@ -49,8 +48,7 @@ def falls(words, listed, letter):
     return all([listed[sign] < listed[letter] for sign in words[letter]])
 
 
-def goes_on(words, listed, letter):
-    """Whether one letter of the word, at one place, lies as the letter does and all others have a lesser rank."""
+def goes_on_once(words, listed, letter):
     own = listed[letter]
     others = [listed[sign] for sign in words[letter]]
     lesser = [other for other in others if other[0] < own[0]]
@@ -66,13 +64,13 @@ def shows_powers(words, letter, paper):
         return False
     if any([listed[each][0] < -1 for each in listed]):
         return False
-    return all([falls(words, listed, each) or goes_on(words, listed, each) for each in listed])
+    return all([falls(words, listed, each) or goes_on_once(words, listed, each) for each in listed])
 
 
 def is_chain(words, letter, thing):
     if not isinstance(thing, list) or len(thing) == 0 or not all([is_link(words, link) for link in thing]):
         return False
-    follow = [leaves(words, thing[place][0], thing[place + 1][1]) for place in range(len(thing) - 1)]
+    follow = [leaves_ring(words, thing[place][0], thing[place + 1][1]) for place in range(len(thing) - 1)]
     return thing[0][1][0] == letter and all(follow)
 
 
@@ -89,9 +87,9 @@ def is_way(words, thing):
     return all([thing[place + 1] in words[thing[place]] for place in range(len(thing) - 1)])
 
 
-def leaves(words, ring, way):
-    """Whether the way begins in the word of the ring's first letter, at another place than the ring goes on."""
+def leaves_ring(words, ring, way):
     onward = ring[1] if len(ring) > 1 else ring[0]
+    # One place is the one by which the ring goes on; where the way begins with that letter it needs another.
     least = 2 if way[0] == onward else 1
     return words[ring[0]].count(way[0]) >= least
 

@@ -2,24 +2,20 @@
 
 from linegrow.books import letters
 from linegrow.checks import need_far_age, need_number
-from linegrow.sums import columns, paired_sum, table, tally
+from linegrow.sums import columns, one_age_on, table, tally
 
 
 def left_over(line, number):
     return [entry % number for entry in line]
 
 
-def line_product(line, sources, number):
-    return left_over([paired_sum(line, source) for source in sources], number)
-
-
 def product(lines, others, number):
     sources = columns(others)
-    return [line_product(line, sources, number) for line in lines]
+    return [left_over(one_age_on(line, sources), number) for line in lines]
 
 
 def led_through(book, lines, age, number):
-    """Each line of counts as it is `age` ages later; the table is squared, so that great ages take few steps."""
+    # The table is squared again and again, so that an age takes as many steps as it has figures by twos.
     step = table(book)
     told = [left_over(line, number) for line in lines]
     rest = age

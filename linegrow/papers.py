@@ -16,7 +16,6 @@ def paper(book, letter):
 
 
 def ring_from(book, letter):
-    """The letters of a simple ring, from this one on, each followed by the one of them that its word has."""
     words = dict(book[1])
     ring = ring_of(book, letter)
     told = letter
@@ -26,12 +25,12 @@ def ring_from(book, letter):
 
 
 def exits(book, letter, depths):
-    """Letters of a ring letter's word from which all rings but one of those behind it can be come to."""
+    # From a letter one less deep all rings behind this one can still be come to.
     return [sign for sign in dict(book[1])[letter] if depths[sign] == depths[letter] - 1]
 
 
 def link(book, begin, depths):
-    """A ring that is as deep as the letter, beginning where the next ring is come to from it, and the way to it."""
+    # A ring as deep as the letter is the first one of a chain that can't be longer.
     goals = [each for each in reached(book, begin) if ring_of(book, each) and depths[each] == depths[begin]]
     steps = path(book, begin, goals)
     ring = ring_from(book, steps[-1])
@@ -51,7 +50,7 @@ def chain(book, letter):
 
 
 def height_by(book, letter, depths, heights):
-    """Letters of a ring lie at 0, each other one above all those of its word that are as deep as it is."""
+    # A letter of a ring goes on as one that lies as it does; each other one lies above those that are as deep.
     if ring_of(book, letter):
         return 0
     word = dict(book[1])[letter]
@@ -69,7 +68,6 @@ def ranks(book, letter):
 
 
 def twice_age(book, letter):
-    """The least age at which the letter stands twice in its own row; None where there is none up to 16."""
     for age, sums in enumerate(single_sums(book, LAST_TWICE, letter)):
         if sums[letter] > 1:
             return age

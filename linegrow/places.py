@@ -15,7 +15,7 @@ def need_place(place, last):
 
 
 def way_behind(book, sums, many):
-    """The way of the first place that is worth something and has things worth `many` ahead of it."""
+    # What counts is worth: with sizes this is the way of a place, with counts of a letter that of its many-th one.
     words = dict(book[1])
     told = []
     text = book[0]
@@ -31,7 +31,6 @@ def way_behind(book, sums, many):
 
 
 def worth_ahead(book, steps, sums):
-    """What all letters ahead of the place of a way are worth together."""
     words = dict(book[1])
     told = 0
     text = book[0]
@@ -77,7 +76,7 @@ def place_of(book, way):
 
 
 def within(text, sizes, start, many):
-    """Those letters of a text that have heirs among `many` places from start on, and start among their heirs alone."""
+    # Told beside the letters: where start lies among their own heirs, those of letters left out ahead not counted.
     kept = []
     inner = start
     begin = 0

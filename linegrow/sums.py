@@ -24,13 +24,22 @@ def paired_sum(ones, others):
     return sum([one * other for one, other in zip(ones, others)])
 
 
+def one_age_on(line, sources):
+    return [paired_sum(line, source) for source in sources]
+
+
 def counts(book, age):
     need_age(age)
+    return first_counts(book, age + 1)[age]
+
+
+def first_counts(book, many):
     sources = columns(table(book))
-    told = tally(book, book[0])
-    for step in range(age):
-        told = [paired_sum(told, source) for source in sources]
-    return told
+    told = [tally(book, book[0])]
+    while len(told) < many:
+        told.append(one_age_on(told[-1], sources))
+    # Of no ages at all not even the first row's counts are told.
+    return told[:many]
 
 
 def length(book, age):
@@ -41,12 +50,19 @@ def weight(book, weights, age):
     return paired_sum(weights, counts(book, age))
 
 
+def first_weights(book, weights, many):
+    return [paired_sum(weights, line) for line in first_counts(book, many)]
+
+
+def first_lengths(book, many):
+    return [sum(line) for line in first_counts(book, many)]
+
+
 def text_sum(text, worths):
     return sum([worths[letter] for letter in text])
 
 
 def letter_sums(book, age, worths):
-    """For each age from 0 on a dict: what the letters of a letter's row are worth together."""
     told = [worths]
     # A letter's row at an age is made of the rows, one age younger, of the letters of its word.
     while len(told) <= age:

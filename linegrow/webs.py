@@ -4,7 +4,6 @@ from linegrow.books import letters, need_letter
 
 
 def spread(book, text):
-    """All letters that letters of the text reach, rising."""
     words = dict(book[1])
     found = ""
     waiting = text
@@ -23,9 +22,8 @@ def reached(book, letter):
 
 
 def ring_of(book, letter):
-    """The ring that the letter is of, rising; the empty text where it is of none."""
     words = dict(book[1])
-    # By the words, not by the letter itself: a ring is come to again at an age above 0.
+    # By the words, not by the letter itself, which would be reached at age 0: a letter of no ring is told "".
     return "".join([each for each in spread(book, words[letter]) if letter in spread(book, words[each])])
 
 
@@ -43,7 +41,7 @@ def is_simple(book, ring):
 
 
 def path(book, letter, goals):
-    """A text as short as can be from the letter to one of the goals (which it reaches), each in the word ahead."""
+    # By letters as near as can be first, so that no letter is gone to twice.
     words = dict(book[1])
     paths = {letter: letter}
     waiting = [letter]

@@ -130,8 +130,11 @@ class TestForm(unittest.TestCase):
             self.assertNotIsInstance(node, BARRED_NODES, spot)
             if isinstance(node, ast.Assign):
                 self.assertEqual(len(node.targets), 1, spot)
+                self.assertNotIsInstance(node.targets[0], (ast.Tuple, ast.List), spot)
             if isinstance(node, (ast.For, ast.While)):
                 self.assertEqual(node.orelse, [], spot)
+            if isinstance(node, ast.Expr) and node not in [tree.body[0] for tree in self.trees.values()]:
+                self.assertIsInstance(node.value, ast.Call, spot)
             if isinstance(node, ast.Try):
                 self.assertEqual(node.finalbody, [], spot)
             if isinstance(node, ast.Constant):

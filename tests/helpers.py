@@ -83,6 +83,28 @@ def some_books(many, seed, longest_word=3, most_letters=8):
     return told
 
 
+def layered_books(many, seed):
+    """Books in which words go on in small rings and else to letters further on, so that most grow as powers."""
+    chance = random.Random(seed)
+    told = []
+    for step in range(many):
+        signs = chance.sample("abcdefghijklmnopqrstuvwxyz", chance.randint(3, 8))
+        words = {}
+        begin = 0
+        while begin < len(signs):
+            end = min(begin + chance.choice([1, 1, 1, 2, 2, 3]), len(signs))
+            ring = signs[begin:end]
+            ringed = chance.random() < 0.7
+            for place, sign in enumerate(ring):
+                parts = chance.choices(signs[end:], k=chance.randint(0, 3)) if signs[end:] else []
+                if ringed:
+                    parts.insert(chance.randint(0, len(parts)), ring[(place + 1) % len(ring)])
+                words[sign] = "".join(parts)
+            begin = end
+        told.append(book_of("".join(chance.choices(signs, k=chance.randint(0, 4))), list(words.items())))
+    return told
+
+
 def later_letters(book):
     """For each letter the letters that stand in its row at some age above 0, by closing the web step by step."""
     told = {letter: set(text) for letter, text in book[1]}

@@ -1,7 +1,7 @@
 import math
 import unittest
 
-from helpers import later_letters, no_letters_of, refused, ring_texts, some_books
+from helpers import later_letters, layered_books, no_letters_of, refused, ring_texts, some_books
 from linegrow.books import book_of, letters
 from linegrow.kinds import kind, row_kind
 from linegrow.sums import length
@@ -17,7 +17,7 @@ RINGS = book_of("a", [("a", "b"), ("b", "ace"), ("c", "d"), ("d", "e"), ("e", "c
 SIDES = book_of("pu", [("a", "b"), ("b", "a"), ("c", "d"), ("d", "e"), ("e", "f"), ("f", "c"), ("p", "ac"), ("u", "a")])
 DOUBLES = book_of("a", [("a", "bb"), ("b", "c"), ("c", "a"), ("d", "da"), ("e", "f"), ("f", ""), ("g", "gf")])
 BOOKS = [STEPS, RINGS, SIDES, DYING, DOUBLES, GOLD]
-BOOKS = BOOKS + some_books(120, 21) + some_books(120, 22, 2) + some_books(60, 23, 1)
+BOOKS = BOOKS + some_books(100, 21) + some_books(100, 22, 2) + some_books(40, 23, 1) + layered_books(100, 24)
 LAST = 300
 
 

@@ -2,7 +2,7 @@ import copy
 import random
 import unittest
 
-from helpers import Thorny, holding_itself, nested, no_letters_of, odd_things, refused, some_books
+from helpers import Thorny, holding_itself, layered_books, nested, no_letters_of, odd_things, refused, some_books
 from linegrow.books import book_of, letters
 from linegrow.kinds import kind
 from linegrow.looker import shows
@@ -19,8 +19,10 @@ DOUBLES = book_of("a", [("a", "bb"), ("b", "c"), ("c", "a"), ("d", "da")])
 TWICE = ("a", (("a", "aa"),))
 # Ways round of 8 and of 7 letters: a stands twice in its own row at age 15 for the first time.
 ROUND = book_of("a", [("a", "bc")] + [(sign, after) for sign, after in zip("bcdefgh", "cdefgha")])
-BOOKS = [GOLD, DYING, STEPS, PAIRS, DOUBLES, TWICE, ROUND]
-BOOKS = BOOKS + some_books(150, 31) + some_books(150, 32, 2) + some_books(50, 33, 1) + some_books(20, 34, 6)
+# From y a ring that has none behind it is nearer than the one that has.
+NEAR = book_of("y", [("y", "am"), ("m", "n"), ("n", "pa"), ("p", "n"), ("a", "a")])
+BOOKS = [GOLD, DYING, STEPS, PAIRS, DOUBLES, TWICE, ROUND, NEAR] + layered_books(100, 35)
+BOOKS = BOOKS + some_books(80, 31) + some_books(100, 32, 2) + some_books(40, 33, 1) + some_books(20, 34, 6)
 
 
 def whole(thing):

@@ -201,6 +201,17 @@ class TestNoWay(unittest.TestCase):
         refused(self, "NoWay", place_of, GOLD, [("a", 0), ("b", 2)])
         refused(self, "NoWay", place_of, GOLD, [("a", 0), ("b", 1), ("a", 1)])
 
+    def test_an_index_from_the_end(self):
+        self.assertEqual(place_of(GAPS, [("b", 4)]), 4)
+        refused(self, "NoWay", place_of, GAPS, [("b", -1)])
+        refused(self, "NoWay", place_of, GAPS, [("a", 1), ("d", -1)])
+        refused(self, "NoWay", place_of, GAPS, [("a", -2)])
+
+    def test_a_letter_that_cannot_be_compared(self):
+        for thing in odd_things() + [["a"], 1]:
+            refused(self, "NoWay", place_of, GAPS, [(thing, 1)])
+            refused(self, "NoWay", place_of, GAPS, [("a", 1), (thing, 0)])
+
     def test_truths_are_no_index(self):
         refused(self, "NoWay", place_of, GOLD, [("a", False)])
         refused(self, "NoWay", place_of, GOLD, [("a", 0), ("b", True)])

@@ -5,6 +5,7 @@ from linegrow.checks import SMALL_LETTERS, is_text_of, is_within
 from linegrow.errors import NoLetter, NoNumber, TooLong
 from linegrow.kinds import ring_depths
 from linegrow.places import stretch
+from linegrow.rows import replaced
 from linegrow.sums import length
 from linegrow.webs import spread
 
@@ -44,10 +45,6 @@ def fast(book, many):
         raise NoNumber("a book can be made faster by 1 to 8")
     rules = [(letter, short_row((letter, book[1]), many, LONGEST_WORD)) for letter in letters(book)]
     return (book[0], tuple(rules))
-
-
-def replaced(text, names):
-    return "".join([names[letter] for letter in text])
 
 
 def called(book, names):

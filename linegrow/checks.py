@@ -4,6 +4,7 @@ from linegrow.errors import NoAge, NoNumber
 
 SMALL_LETTERS = "abcdefghijklmnopqrstuvwxyz"
 LAST_AGE = 300
+LONGEST_NAME = 8
 
 
 def is_whole(thing):
@@ -26,6 +27,10 @@ def is_letter(thing):
 
 def is_text_of(thing, signs, most):
     return isinstance(thing, str) and len(thing) <= most and all([sign in signs for sign in thing])
+
+
+def is_name(thing):
+    return is_text_of(thing, SMALL_LETTERS, LONGEST_NAME) and len(thing) > 0
 
 
 def need_age(age):

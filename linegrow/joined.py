@@ -2,6 +2,7 @@
 
 from linegrow.books import letters, need_letter
 from linegrow.errors import NoGroups
+from linegrow.rows import replaced
 
 
 def need_groups(book, groups):
@@ -61,9 +62,5 @@ def apart(book, groups, letter, second):
 def shrunk(book, groups):
     need_groups(book, groups)
     firsts = dict([(letter, alike_with(book, groups, letter)[0]) for letter in letters(book)])
-    rules = [(rule[0], by_firsts(rule[1], firsts)) for rule in book[1] if firsts[rule[0]] == rule[0]]
-    return (by_firsts(book[0], firsts), tuple(rules))
-
-
-def by_firsts(text, firsts):
-    return "".join([firsts[letter] for letter in text])
+    rules = [(rule[0], replaced(rule[1], firsts)) for rule in book[1] if firsts[rule[0]] == rule[0]]
+    return (replaced(book[0], firsts), tuple(rules))

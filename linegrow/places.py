@@ -3,8 +3,8 @@
 from linegrow.books import need_letter
 from linegrow.checks import LAST_AGE, is_letter, is_tuple_of, is_within, need_age
 from linegrow.errors import NoNumber, NoPlace, NoWay
-from linegrow.rows import turned
-from linegrow.sums import length_sums, single_sums, text_sum
+from linegrow.rows import replaced
+from linegrow.sums import length_sums, single_sums, text_sum, words_by_age
 
 LONGEST_STRETCH = 100
 
@@ -14,29 +14,28 @@ def need_place(place, last):
         raise NoPlace("the row has no such place")
 
 
-def way_behind(book, sums, many):
+# Here words has for each age the word of each letter, since a bed's words are not the same at all ages.
+def way_behind(first, words, sums, many):
     # What counts is worth: with sizes this is the way of a place, with counts of a letter that of its many-th one.
-    words = dict(book[1])
     told = []
-    text = book[0]
+    text = first
     left = many
-    for worths in reversed(sums):
+    for worths, spelling in zip(reversed(sums), words):
         index = 0
         while worths[text[index]] <= left:
             left -= worths[text[index]]
             index += 1
         told.append((text[index], index))
-        text = words[text[index]]
+        text = spelling[text[index]]
     return told
 
 
-def worth_ahead(book, steps, sums):
-    words = dict(book[1])
+def worth_ahead(first, words, steps, sums):
     told = 0
-    text = book[0]
-    for worths, step in zip(reversed(sums), steps):
+    text = first
+    for worths, spelling, step in zip(reversed(sums), words, steps):
         told += text_sum(text[:step[1]], worths)
-        text = words[step[0]]
+        text = spelling[step[0]]
     return told
 
 
@@ -44,7 +43,7 @@ def way(book, age, place):
     need_age(age)
     sums = length_sums(book, age)
     need_place(place, text_sum(book[0], sums[age]) - 1)
-    return way_behind(book, sums, place)
+    return way_behind(book[0], words_by_age(book, age), sums, place)
 
 
 def letter_at(book, age, place):
@@ -72,7 +71,8 @@ def is_way(book, thing):
 def place_of(book, way):
     if not is_way(book, way):
         raise NoWay("this is the way of no place")
-    return worth_ahead(book, way, length_sums(book, len(way) - 1))
+    age = len(way) - 1
+    return worth_ahead(book[0], words_by_age(book, age), way, length_sums(book, age))
 
 
 def within(text, sizes, start, many):
@@ -90,23 +90,26 @@ def within(text, sizes, start, many):
     return ("".join(kept), inner)
 
 
-def read(book, sums, start, many):
-    part = within(book[0], sums[-1], start, many)
+def read(first, words, sums, start, many):
+    part = within(first, sums[-1], start, many)
     # What has no heirs in the stretch is left out at every age, so never more than `many` letters are turned.
-    for sizes in reversed(sums[:-1]):
-        part = within(turned(book, part[0]), sizes, part[1], many)
+    for sizes, spelling in zip(reversed(sums[:-1]), words):
+        part = within(replaced(part[0], spelling), sizes, part[1], many)
     return part[0]
+
+
+def need_stretch(start, many, whole):
+    need_place(start, whole)
+    if not is_within(many, 0, LONGEST_STRETCH):
+        raise NoNumber("a stretch has from 0 to 100 letters")
+    need_place(start + many, whole)
 
 
 def stretch(book, age, start, many):
     need_age(age)
     sums = length_sums(book, age)
-    whole = text_sum(book[0], sums[age])
-    need_place(start, whole)
-    if not is_within(many, 0, LONGEST_STRETCH):
-        raise NoNumber("a stretch has from 0 to 100 letters")
-    need_place(start + many, whole)
-    return read(book, sums, start, many)
+    need_stretch(start, many, text_sum(book[0], sums[age]))
+    return read(book[0], words_by_age(book, age), sums, start, many)
 
 
 def ahead(book, age, place, letter):
@@ -119,7 +122,8 @@ def ahead(book, age, place, letter):
     # No way leads to the row's end, where all letters are ahead.
     if place == whole:
         return text_sum(book[0], singles[age])
-    return worth_ahead(book, way_behind(book, sums, place), singles)
+    words = words_by_age(book, age)
+    return worth_ahead(book[0], words, way_behind(book[0], words, sums, place), singles)
 
 
 def nth(book, age, letter, many):
@@ -127,4 +131,5 @@ def nth(book, age, letter, many):
     need_letter(book, letter)
     singles = single_sums(book, age, letter)
     need_place(many, text_sum(book[0], singles[age]) - 1)
-    return worth_ahead(book, way_behind(book, singles, many), length_sums(book, age))
+    words = words_by_age(book, age)
+    return worth_ahead(book[0], words, way_behind(book[0], words, singles, many), length_sums(book, age))

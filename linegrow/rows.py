@@ -6,11 +6,15 @@ from linegrow.errors import NoLetter, TooLong
 LONGEST_ROW = 600
 
 
+def replaced(text, words):
+    return "".join([words[letter] for letter in text])
+
+
 def turned(book, text):
     words = dict(book[1])
     if not is_text_of(text, words, LONGEST_ROW):
         raise NoLetter("this is no text of at most 600 letters of the book")
-    return "".join([words[letter] for letter in text])
+    return replaced(text, words)
 
 
 def rows(book, age):

@@ -62,20 +62,29 @@ def text_sum(text, worths):
     return sum([worths[letter] for letter in text])
 
 
-def letter_sums(book, age, worths):
+def words_by_age(book, age):
+    return [dict(book[1])] * (age + 1)
+
+
+def letter_sums(words, worths):
     told = [worths]
-    # A letter's row at an age is made of the rows, one age younger, of the letters of its word.
-    while len(told) <= age:
-        told.append(dict([(rule[0], text_sum(rule[1], told[-1])) for rule in book[1]]))
+    # What comes of a letter is what comes, one age on, of the letters of its word; at the last age none is turned.
+    for spelling in reversed(words[:-1]):
+        told.append(dict([(letter, text_sum(spelling[letter], told[-1])) for letter in spelling]))
     return told
 
 
+def size_sums(words):
+    return letter_sums(words, dict([(letter, 1) for letter in words[-1]]))
+
+
 def length_sums(book, age):
-    return letter_sums(book, age, dict([(letter, 1) for letter in letters(book)]))
+    return size_sums(words_by_age(book, age))
 
 
 def single_sums(book, age, single):
-    return letter_sums(book, age, dict([(letter, 1 if letter == single else 0) for letter in letters(book)]))
+    worths = dict([(letter, 1 if letter == single else 0) for letter in letters(book)])
+    return letter_sums(words_by_age(book, age), worths)
 
 
 def letter_lengths(book, age):

@@ -36,6 +36,9 @@ BARRED_NODES = (
     ast.AsyncFunctionDef, ast.AsyncFor, ast.AsyncWith, ast.SetComp, ast.DictComp, ast.GeneratorExp, ast.NamedExpr,
     ast.Starred, ast.Div, ast.Import, ast.AnnAssign,
 )
+BARRED_VALUES = set(
+    "items keys values pop update append clear extend insert remove reverse setdefault sort args encode format".split()
+)
 WALKED = {"zip", "enumerate", "reversed", "range", "items", "keys", "values"}
 WALKERS = {"list", "tuple", "dict", "sorted", "sum", "any", "all", "enumerate", "zip"}
 METHODS_WITH_UNDERSCORES = {"__init__", "__eq__", "__repr__", "__str__", "__len__"}
@@ -199,6 +202,17 @@ class TestForm(unittest.TestCase):
                 if isinstance(node, ast.Attribute) and node.attr not in METHODS_WITH_UNDERSCORES:
                     self.assertNotIn(node.attr, BARRED_METHODS, spot)
                     self.assertFalse(node.attr.startswith("_"), spot)
+
+    def test_no_name_is_a_method_and_a_value(self):
+        methods = set()
+        values = set()
+        for spot, node in self.each_node():
+            if isinstance(node, ast.ClassDef):
+                methods |= {part.name for part in node.body if isinstance(part, ast.FunctionDef)}
+            if isinstance(node, ast.Attribute) and isinstance(node.ctx, ast.Store):
+                values.add(node.attr)
+        self.assertEqual(methods & values, set())
+        self.assertEqual(values & BARRED_VALUES, set())
 
     def bound(self, name, taken, spot):
         self.assertFalse(name.startswith("_"), spot)
